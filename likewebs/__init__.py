@@ -1,0 +1,1 @@
+"""Likewebs: webs that are alike, and one form for all of them."""

@@ -1,0 +1,250 @@
+"""The document's points once more, written in another way than in the program, to compare it with."""
+
+import itertools
+from collections import Counter
+
+MOST = 12
+GREATEST = 10 ** 9
+
+
+def whole(thing):
+    return type(thing) is int
+
+
+def within(thing, low, high):
+    return whole(thing) and low <= thing <= high
+
+
+def corner(many, thing):
+    return within(thing, 0, many - 1)
+
+
+# Stage 1
+
+def is_naming(many, thing):
+    return type(thing) is tuple and all(map(whole, thing)) and Counter(thing) == Counter(range(many))
+
+
+def web_parts(colours, arrows):
+    """("web", colours, arrows) or ("no", at)."""
+    if type(colours) not in (list, tuple) or len(colours) > MOST:
+        return ("no", None)
+    for colour in colours:
+        if not within(colour, 0, GREATEST):
+            return ("no", None)
+    if type(arrows) not in (list, tuple):
+        return ("no", None)
+    rows = []
+    for at, row in enumerate(arrows):
+        right = type(row) in (list, tuple) and len(row) == 3 and all(map(whole, row))
+        right = right and corner(len(colours), row[0]) and corner(len(colours), row[1]) and row[0] != row[1]
+        right = right and 0 < row[2] <= GREATEST
+        if not right or any(row[0] == other[0] and row[1] == other[1] for other in rows):
+            return ("no", at)
+        rows.append((row[0], row[1], row[2]))
+    rows.sort()
+    return ("web", tuple(colours), tuple(rows))
+
+
+def marks(web):
+    told = {(a, b): 0 for a in range(len(web.colours)) for b in range(len(web.colours))}
+    for a, b, mark in web.arrows:
+        told[a, b] = mark
+    return told
+
+
+def renamed_parts(web, naming):
+    colours = {naming[a]: colour for a, colour in enumerate(web.colours)}
+    rows = sorted((naming[a], naming[b], mark) for a, b, mark in web.arrows)
+    return (tuple(colours[a] for a in sorted(colours)), tuple(rows))
+
+
+# Stage 2
+
+def is_stand(many, thing):
+    if type(thing) is not tuple:
+        return False
+    met = []
+    for cell in thing:
+        if type(cell) is not tuple or not cell or not all(corner(many, part) for part in cell):
+            return False
+        if list(cell) != sorted(cell):
+            return False
+        met.extend(cell)
+    return len(met) == many and all(a in met for a in range(many))
+
+
+def cells(stand):
+    return {frozenset(cell) for cell in stand}
+
+
+def finer(one, other):
+    return all(any(set(cell) <= set(home) for home in other) for cell in one)
+
+
+def look(web, stand, a):
+    mark = marks(web)
+    told = []
+    for cell in stand:
+        counts = Counter((mark[a, b], mark[b, a]) for b in cell if b != a)
+        told.append(tuple(sorted(counts.elements())))
+    return tuple(told)
+
+
+def is_even(web, stand):
+    return all(look(web, stand, a) == look(web, stand, b) for cell in stand for a in cell for b in cell)
+
+
+def next_stand(web, stand):
+    told = []
+    for cell in stand:
+        groups = {}
+        for a in cell:
+            groups.setdefault(look(web, stand, a), []).append(a)
+        told += [tuple(sorted(groups[key])) for key in sorted(groups)]
+    return tuple(told)
+
+
+def rounds(web, stand):
+    told = [stand]
+    while not is_even(web, told[-1]):
+        told.append(next_stand(web, told[-1]))
+    return told
+
+
+def refined(web, stand):
+    return rounds(web, stand)[-1]
+
+
+def by_colours(web):
+    groups = {}
+    for a, colour in enumerate(web.colours):
+        groups.setdefault(colour, []).append(a)
+    return tuple(tuple(groups[colour]) for colour in sorted(groups))
+
+
+def place(stand, a):
+    return next(at for at, cell in enumerate(stand) if a in cell)
+
+
+def apart(web, stand, a, b):
+    if place(stand, a) != place(stand, b):
+        return (0, -1)
+    ahead = stand
+    for at, behind in enumerate(rounds(web, stand)[1:], start=1):
+        if place(behind, a) != place(behind, b):
+            one, other = look(web, ahead, a), look(web, ahead, b)
+            return (at, min(k for k in range(len(ahead)) if one[k] != other[k]))
+        ahead = behind
+    return None
+
+
+def telling(web, stand):
+    told = []
+    for cell in stand:
+        looks = sorted(look(web, stand, a) for a in cell)
+        told.append((sorted(web.colours[a] for a in cell)[0], len(cell), looks[0]))
+    return tuple(told)
+
+
+def log_step(web, stand, row):
+    """The stand behind a row, or None where it isn't right."""
+    if type(row) is not tuple or len(row) != 3 or type(row[2]) is not tuple or len(row[2]) != 2:
+        return None
+    cell, by, (out, into) = row
+    if not all(map(whole, (cell, by, out, into))):
+        return None
+    if cell not in range(len(stand)) or by not in range(len(stand)):
+        return None
+    mark = marks(web)
+    groups = {}
+    for a in stand[cell]:
+        count = sum(1 for b in stand[by] if b != a and mark[a, b] == out and mark[b, a] == into)
+        groups.setdefault(count, []).append(a)
+    if len(groups) == 1:
+        return None
+    return stand[:cell] + tuple(tuple(groups[count]) for count in sorted(groups)) + stand[cell + 1:]
+
+
+def walk(web, stand, log):
+    """("stand", stand) or ("no", at)."""
+    if type(log) is not list:
+        return ("no", None)
+    for at, row in enumerate(log):
+        stand = log_step(web, stand, row)
+        if stand is None:
+            return ("no", at)
+    return ("stand", stand)
+
+
+def right_rows(web, stand):
+    """All right rows, rising."""
+    mark = marks(web)
+    met = sorted({(mark[a, b], mark[b, a]) for a in range(len(web.colours)) for b in range(len(web.colours))})
+    numbers = range(len(stand))
+    return [row for row in itertools.product(numbers, numbers, met) if log_step(web, stand, row) is not None]
+
+
+def log_of(web, stand):
+    log = []
+    while right_rows(web, stand):
+        log.append(right_rows(web, stand)[0])
+        stand = log_step(web, stand, log[-1])
+    return log
+
+
+# Stage 3
+
+def is_row(many, thing):
+    if type(thing) is not tuple or not all(corner(many, part) for part in thing):
+        return False
+    return all(thing.count(part) == 1 for part in thing)
+
+
+def singled(web, stand, a):
+    told = []
+    for cell in stand:
+        if a in cell:
+            told.append((a,))
+            told.append(tuple(b for b in cell if b != a))
+        else:
+            told.append(cell)
+    return refined(web, tuple(cell for cell in told if cell))
+
+
+def row_stand(web, row):
+    if not row:
+        return refined(web, by_colours(web))
+    return singled(web, row_stand(web, row[:-1]), row[-1])
+
+
+def row_telling(web, row):
+    stand = row_stand(web, row)
+    return (telling(web, stand), tuple(place(stand, a) for a in row))
+
+
+def target(stand):
+    return next((at for at, cell in enumerate(stand) if len(cell) != 1), -1)
+
+
+def kids(web, row):
+    stand = row_stand(web, row)
+    if target(stand) == -1:
+        return ([], [])
+    cell = stand[target(stand)]
+    tellings = [row_telling(web, row + (x,)) for x in cell]
+    kept = [x for x, told in zip(cell, tellings) if not any(other < told for other in tellings)]
+    return (kept, [x for x in cell if x not in kept])
+
+
+def worth(web, row):
+    told = ()
+    for many in range(len(row) + 1):
+        told += (row_telling(web, row[:many]),)
+    return told
+
+
+def is_leaf(web, row):
+    if any(row[at] not in kids(web, row[:at])[0] for at in range(len(row))):
+        return False
+    return all(len(cell) == 1 for cell in row_stand(web, row))

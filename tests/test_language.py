@@ -1,0 +1,201 @@
+"""The rules of LANGUAGE.md that a plain reading of the package's files can tell."""
+
+import ast
+import builtins
+import pathlib
+import re
+import unittest
+import warnings
+
+PACKAGE = pathlib.Path(__file__).resolve().parent.parent / "likewebs"
+
+ALLOWED = set(
+    "len range enumerate zip min max sum abs sorted reversed int str bool list tuple dict set isinstance ord repr any "
+    "all divmod super Exception ValueError TypeError KeyError IndexError LookupError ZeroDivisionError "
+    "ArithmeticError OverflowError RuntimeError NotImplementedError".split()
+)
+METHODS = set(
+    "append clear copy count endswith extend find get index insert isalnum isalpha isdigit islower isspace isupper "
+    "items join keys ljust lower lstrip partition pop remove replace reverse rfind rjust rpartition rsplit rstrip "
+    "setdefault split splitlines startswith strip update upper values zfill bit_length".split()
+)
+DOUBLE = {"__init__", "__eq__", "__repr__", "__str__", "__len__", "__enter__", "__exit__", "__call__"}
+NOWHERE = set("register mro elements open input version_info with_traceback add_note".split())
+NO_NAMES = NOWHERE | set(
+    "attrgetter breakpoint builtins compile copyright credits delattr dir eval exec exit gc getattr globals hasattr "
+    "help id importlib license locals methodcaller os quit setattr type vars sys".split()
+)
+NO_WORDS = re.compile(
+    r"\b(type|typing|typing_extensions|enum|Enum|IntEnum|StrEnum|Flag|IntFlag|Generic|Protocol|ABC|ABCMeta|namedtuple|"
+    r"NamedTuple|TypedDict|TYPE_CHECKING|abstractmethod)\b|dataclass|overload|contextmanager"
+)
+STATEMENTS = (
+    ast.FunctionDef, ast.ClassDef, ast.ImportFrom, ast.Assign, ast.AugAssign, ast.If, ast.While, ast.For, ast.Return,
+    ast.Break, ast.Continue, ast.Pass, ast.Raise, ast.Assert, ast.Delete, ast.Try, ast.Expr,
+)
+AT_ONCE = {"list", "tuple", "dict", "sorted", "sum", "any", "all", "enumerate", "zip", "min", "max"}
+
+
+def files():
+    return sorted(PACKAGE.glob("*.py"))
+
+
+def trees():
+    return {path.stem: ast.parse(path.read_text(encoding="utf-8")) for path in files()}
+
+
+def imports(tree):
+    return [node for node in ast.walk(tree) if isinstance(node, (ast.Import, ast.ImportFrom))]
+
+
+def imported(tree):
+    return {alias.asname or alias.name for node in imports(tree) for alias in node.names}
+
+
+def defined(tree):
+    names = {node.name for node in tree.body if isinstance(node, (ast.FunctionDef, ast.ClassDef))}
+    return names | {target.id for node in tree.body if isinstance(node, ast.Assign) for target in node.targets}
+
+
+def local_names(tree):
+    """The names of parameters and of all that functions assign to."""
+    told = {node.arg for node in ast.walk(tree) if isinstance(node, ast.arg)}
+    for function in [node for node in ast.walk(tree) if isinstance(node, (ast.FunctionDef, ast.Lambda))]:
+        for node in ast.walk(function):
+            if isinstance(node, ast.Name) and not isinstance(node.ctx, ast.Load):
+                told.add(node.id)
+    return told
+
+
+def parents(tree):
+    return {child: node for node in ast.walk(tree) for child in ast.iter_child_nodes(node)}
+
+
+def called(node):
+    """The name of the builtin or function that a node calls, or None."""
+    return node.func.id if isinstance(node, ast.Call) and isinstance(node.func, ast.Name) else None
+
+
+class Language(unittest.TestCase):
+    def test_files(self):
+        for path in PACKAGE.iterdir():
+            if path.name != "__pycache__":
+                self.assertRegex(path.name, r"^[a-z_][a-z0-9_]*\.py$")
+        self.assertIn(PACKAGE / "__init__.py", files())
+        for path in files():
+            text = path.read_bytes().decode("ascii")
+            self.assertRegex(text, r"^[ -~\n]*\Z")
+            self.assertIsNone(NO_WORDS.search(text), path)
+            lines = text.split("\n")
+            self.assertLessEqual(len(lines), 400)
+            self.assertLessEqual(max(map(len, lines)), 120)
+            with warnings.catch_warnings():
+                warnings.simplefilter("error")
+                compile(text, str(path), "exec")
+
+    def test_imports(self):
+        graph = {}
+        for name, tree in trees().items():
+            graph[name] = []
+            for node in imports(tree):
+                self.assertIsInstance(node, ast.ImportFrom)
+                self.assertEqual(node.level, 0)
+                package, _, home = node.module.partition(".")
+                self.assertEqual(package, "likewebs")
+                for alias in node.names:
+                    self.assertIn(alias.name, defined(trees()[home]))
+                graph[name].append(home)
+        while graph:
+            free = [name for name in graph if not any(home in graph for home in graph[name])]
+            self.assertTrue(free, "files import from each other")
+            for name in free:
+                del graph[name]
+
+    def test_module_level(self):
+        for name, tree in trees().items():
+            bound = [alias.asname or alias.name for node in imports(tree) for alias in node.names]
+            for node in tree.body[1:]:
+                self.assertIsInstance(node, (ast.ImportFrom, ast.Assign, ast.FunctionDef, ast.ClassDef))
+                if isinstance(node, ast.Assign):
+                    self.assertIs(type(eval(ast.unparse(node.value), {"__builtins__": {}})), int)
+                    bound.append(node.targets[0].id)
+                elif not isinstance(node, ast.ImportFrom):
+                    bound.append(node.name)
+            self.assertIsNotNone(ast.get_docstring(tree))
+            self.assertEqual(len(bound), len(set(bound)), name)
+
+    def test_names(self):
+        for name, tree in trees().items():
+            classes = {node.name for node in tree.body if isinstance(node, ast.ClassDef)}
+            local = local_names(tree)
+            self.assertFalse(local & (imported(tree) | classes | set(dir(builtins)) | NO_NAMES), name)
+            self.assertFalse((defined(tree) | imported(tree)) & (set(dir(builtins)) | NO_NAMES), name)
+            for told in local | defined(tree):
+                self.assertRegex(told, r"^[A-Za-z][A-Za-z0-9_]*$")
+            known = local | imported(tree) | defined(tree) | ALLOWED
+            used = {node.id for node in ast.walk(tree) if isinstance(node, ast.Name)}
+            self.assertFalse(used - known, name)
+
+    def test_functions(self):
+        for tree in trees().values():
+            for node in ast.walk(tree):
+                if isinstance(node, ast.FunctionDef):
+                    self.assertLessEqual(node.end_lineno - node.lineno + 1, 40)
+                    self.assertEqual(node.decorator_list, [])
+                    self.assertEqual(node.args.posonlyargs, [])
+                    self.assertFalse(node.name.startswith("__") and node.name not in DOUBLE)
+                elif isinstance(node, ast.ClassDef):
+                    self.assertEqual(node.decorator_list, [])
+                    self.assertEqual(node.keywords, [])
+
+    def test_statements_and_expressions(self):
+        for tree in trees().values():
+            for node in ast.walk(tree):
+                if isinstance(node, ast.stmt):
+                    self.assertIsInstance(node, STATEMENTS)
+                self.assertNotIsInstance(node, (ast.Div, ast.Await, ast.Yield, ast.GeneratorExp, ast.NamedExpr))
+                if isinstance(node, ast.Expr):
+                    self.assertIsInstance(node.value, (ast.Call, ast.Constant))
+                if isinstance(node, ast.Constant):
+                    self.assertNotIsInstance(node.value, (float, complex))
+                    self.assertFalse(isinstance(node.value, str) and ("%" in node.value or "\\" in node.value))
+                if isinstance(node, ast.Pow):
+                    self.assertIn("10 ** 9", ast.unparse(tree))
+                if isinstance(node, ast.Compare):
+                    for sign, right in zip(node.ops, node.comparators):
+                        if isinstance(sign, (ast.Is, ast.IsNot)):
+                            self.assertTrue(isinstance(right, ast.Constant) and right.value in (None, True, False))
+                if isinstance(node, ast.Raise):
+                    self.assertTrue(called(node.exc), "raise creates its error on the spot")
+
+    def test_sets_and_what_is_iterated_at_once(self):
+        for tree in trees().values():
+            above = parents(tree)
+            for node in ast.walk(tree):
+                if called(node) == "set" or isinstance(node, (ast.SetComp, ast.Set)):
+                    self.assertIn(called(above[node]), ("sorted", "len"))
+                if called(node) in ("zip", "enumerate", "reversed", "range"):
+                    up = above[node]
+                    self.assertTrue(isinstance(up, (ast.For, ast.comprehension)) or called(up) in AT_ONCE)
+
+    def test_methods_and_attributes(self):
+        methods, fields = set(), set()
+        for tree in trees().values():
+            for kind in [node for node in tree.body if isinstance(node, ast.ClassDef)]:
+                methods |= {node.name for node in kind.body if isinstance(node, ast.FunctionDef)}
+            fields |= {
+                node.attr for node in ast.walk(tree)
+                if isinstance(node, ast.Attribute) and isinstance(node.ctx, ast.Store)
+            }
+        self.assertFalse(methods & fields)
+        for value in ("", 0, [], {}, set(), b"", ()):
+            self.assertFalse(fields & set(dir(value)) - {"count", "index"})
+        for tree in trees().values():
+            for node in ast.walk(tree):
+                if isinstance(node, ast.Attribute):
+                    self.assertIn(node.attr, methods | fields | METHODS)
+                    self.assertNotIn(node.attr, NOWHERE)
+
+
+if __name__ == "__main__":
+    unittest.main()
