@@ -1,0 +1,81 @@
+"""Every name, argument and default value that the interface lists for stages 1 to 3."""
+
+import importlib
+import inspect
+import unittest
+
+from likewebs.webs import Web
+from tests.common import Case
+
+FUNCTIONS = {
+    "wholes": {"is_whole": "(thing)"},
+    "namings": {
+        "is_naming": "(many, thing)", "naming_of": "(thing)", "stays": "(many)", "then": "(first, second)",
+        "back": "(naming)", "rings": "(naming)", "order_of": "(naming)",
+    },
+    "webs": {"Web": "(colours, arrows=())", "renamed": "(web, naming)", "leads": "(web, naming, other)"},
+    "changes": {
+        "with_arrow": "(web, a, b, *, mark=1)", "without_arrow": "(web, a, b)", "with_corner": "(web, *, colour=0)",
+        "without_corner": "(web, corner)", "painted": "(web, corner, colour)",
+    },
+    "stands": {
+        "is_stand": "(web, thing)", "by_colours": "(web)", "cell_of": "(stand, corner)",
+        "look": "(web, stand, corner)", "is_even": "(web, stand)", "finer": "(one, other)",
+    },
+    "refine": {
+        "next_stand": "(web, stand)", "rounds": "(web, stand)", "refined": "(web, stand)", "root": "(web)",
+        "apart": "(web, stand, a, b)", "telling": "(web, stand)",
+    },
+    "logs": {"walked": "(web, stand, log)", "log_of": "(web, stand)"},
+    "rows": {
+        "is_row": "(web, thing)", "check_row": "(web, thing)", "singled": "(web, stand, corner)",
+        "row_stand": "(web, row)", "row_telling": "(web, row)", "target": "(stand)", "kids": "(web, row)",
+        "worth": "(web, row)",
+    },
+    "leaves": {"naming_by": "(stand)", "leaves": "(web, *, most=60)"},
+}
+
+CONSTANTS = {
+    "MOST": 12, "GREATEST": 1000000000, "ONE": 1, "PLAIN": 0, "FEW": 60, "HOUSE": 40, "KEPT": 20, "DIARY": 30,
+}
+
+
+def module(name):
+    return importlib.import_module("likewebs." + name)
+
+
+class Interface(Case):
+    def test_functions_and_their_arguments(self):
+        for place, names in FUNCTIONS.items():
+            for name, wanted in names.items():
+                with self.subTest(place=place, name=name):
+                    self.assertEqual(str(inspect.signature(getattr(module(place), name))), wanted)
+
+    def test_constants(self):
+        for name, wanted in CONSTANTS.items():
+            with self.subTest(name=name):
+                self.same(getattr(module("wholes"), name), wanted)
+
+    def test_methods_stand_in_the_class_itself(self):
+        for name, wanted in {
+            "__init__": "(self, colours, arrows=())", "mark": "(self, a, b)", "__eq__": "(self, other)",
+            "__len__": "(self)", "__str__": "(self)", "__repr__": "(self)",
+        }.items():
+            with self.subTest(name=name):
+                self.assertIn(name, vars(Web))
+                self.assertEqual(str(inspect.signature(vars(Web)[name])), wanted)
+
+    def test_what_stands_behind_a_star_is_handed_in_by_name(self):
+        changes, leaves = module("changes"), module("leaves")
+        web = Web((0, 0))
+        self.same(changes.with_arrow(web, 0, 1, mark=9), Web((0, 0), ((0, 1, 9),)))
+        self.same(changes.with_corner(web, colour=9), Web((0, 0, 9)))
+        self.same(leaves.leaves(web, most=2), [(0,), (1,)])
+        for deed, handed in ((changes.with_arrow, (web, 0, 1, 9)), (changes.with_corner, (web, 9)),
+                             (leaves.leaves, (web, 2))):
+            with self.assertRaises(TypeError):
+                deed(*handed)
+
+
+if __name__ == "__main__":
+    unittest.main()
