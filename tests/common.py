@@ -213,3 +213,73 @@ def new_stand(stand, naming):
 def all_rows(many):
     """All rows of a web of so many corners, rising."""
     return sorted(row for long in range(many + 1) for row in itertools.permutations(range(many), long))
+
+
+def wheel(steps, many=5):
+    """Corners in a ring, each with an arrow so many places on, by that mark, for each of the steps."""
+    return Web((0,) * many, [(a, (a + step) % many, mark) for a in range(many) for mark, step in steps.items()])
+
+
+def beside(*webs):
+    """Webs side by side."""
+    colours, rows = (), []
+    for web in webs:
+        rows += [(len(colours) + a, len(colours) + b, mark) for a, b, mark in web.arrows]
+        colours += web.colours
+    return Web(colours, rows)
+
+
+def around(one, other, colour=0):
+    """Two corners, each with arrows to all corners of one of two webs, which have that colour."""
+    told = beside(bare(2), one, other)
+    many = 2 + len(one)
+    rows = [(0, a, 1) for a in range(2, many)] + [(1, a, 1) for a in range(many, len(told))]
+    return Web((0, 0) + (colour,) * (len(told) - 2), list(told.arrows) + rows)
+
+
+def signed(crossed):
+    """Four corners, each with arrows to two of its own; of each two such pairs each corner is tied to one of the other.
+
+    The pairs in crossed are tied crosswise. Corners singled out of the first four tell the same, whatever is crossed.
+    """
+    rows = [(x, 4 + 2 * x + side, 1) for x in range(4) for side in range(2)]
+    for x, y in itertools.combinations(range(4), 2):
+        for side in range(2):
+            a, b = 4 + 2 * x + side, 4 + 2 * y + (side + ((x, y) in crossed)) % 2
+            rows += [(a, b, 1), (b, a, 1)]
+    return Web((0,) * 4 + (1,) * 8, rows)
+
+
+# Of one look, but not alike.
+WHEEL, OTHER_WHEEL = wheel({1: 1, 2: 2}), wheel({1: 1, 2: 3})
+TRIANGLES, HEXAGON = beside(full(3), full(3)), wheel({1: 1, 2: 5}, many=6)
+HEXAGON = Web(HEXAGON.colours, [(a, b, 1) for a, b, mark in HEXAGON.arrows])
+
+
+def unlike_pairs():
+    """Pairs of webs that are not alike, but whose roots tell the same."""
+    told = [(WHEEL, OTHER_WHEEL), (TRIANGLES, HEXAGON), (beside(ring(3), ring(3)), ring(6))]
+    told += [(beside(bare(2), WHEEL), beside(bare(2), OTHER_WHEEL)), (beside(ring(3), ring(4)), ring(7))]
+    told += [(beside(WHEEL, WHEEL), beside(WHEEL, OTHER_WHEEL))]
+    told += [(around(WHEEL, WHEEL), around(WHEEL, OTHER_WHEEL))]
+    told += [(around(WHEEL, WHEEL, 1), around(OTHER_WHEEL, WHEEL, 1))]
+    told += [(signed([]), signed([(0, 1)])), (signed([(0, 1)]), signed([(0, 1), (2, 3)]))]
+    return told
+
+
+def knotty_webs():
+    """Webs with cells whose corners twists do not all send to one another, and with many twists."""
+    told = [beside(ring(3), ring(4)), WHEEL, TRIANGLES, beside(full(3), HEXAGON), beside(ring(3), ring(3))]
+    told += [around(WHEEL, OTHER_WHEEL), around(WHEEL, WHEEL), beside(WHEEL, OTHER_WHEEL), beside(chain(2), chain(2))]
+    told += [beside(ring(3), ring(4), bare(2)), beside(full(2), full(2), full(2)), around(ring(5), ring(5))]
+    # Its first two corners tell the same, singled out, but no twist sends them to one another.
+    told += [around(WHEEL, OTHER_WHEEL, 1), around(ring(5), ring(5), 1)]
+    # Of its first four corners, which tell the same, twists send each to just one other.
+    told += [signed([(0, 1)]), signed([])]
+    return told
+
+
+def some_rows(many):
+    """Some rows of so many corners: of none, of one, of two both ways, of all."""
+    corners = tuple(range(many))
+    return sorted({(), corners[:1], corners[-1:], corners[:2], corners[:2][::-1], corners[::3], corners})

@@ -201,6 +201,19 @@ def is_row(many, thing):
     return all(thing.count(part) == 1 for part in thing)
 
 
+def once(deed):
+    """The deed of a web and a row, worked out once only."""
+    known = {}
+
+    def told(web, row):
+        key = (web.colours, web.arrows, row)
+        if key not in known:
+            known[key] = deed(web, row)
+        return known[key]
+
+    return told
+
+
 def singled(web, stand, a):
     told = []
     for cell in stand:
@@ -212,12 +225,14 @@ def singled(web, stand, a):
     return refined(web, tuple(cell for cell in told if cell))
 
 
+@once
 def row_stand(web, row):
     if not row:
         return refined(web, by_colours(web))
     return singled(web, row_stand(web, row[:-1]), row[-1])
 
 
+@once
 def row_telling(web, row):
     stand = row_stand(web, row)
     return (telling(web, stand), tuple(place(stand, a) for a in row))
@@ -227,6 +242,7 @@ def target(stand):
     return next((at for at, cell in enumerate(stand) if len(cell) != 1), -1)
 
 
+@once
 def kids(web, row):
     stand = row_stand(web, row)
     if target(stand) == -1:
@@ -237,6 +253,7 @@ def kids(web, row):
     return (kept, [x for x in cell if x not in kept])
 
 
+@once
 def worth(web, row):
     told = ()
     for many in range(len(row) + 1):
@@ -248,3 +265,122 @@ def is_leaf(web, row):
     if any(row[at] not in kids(web, row[:at])[0] for at in range(len(row))):
         return False
     return all(len(cell) == 1 for cell in row_stand(web, row))
+
+
+# Pairs
+
+def namings(web, row, other, other_row):
+    """All namings that fit, rising, by trying all orders of the corners as far as nothing is wrong."""
+    many = len(web.colours)
+    if many != len(other.colours) or len(row) != len(other_row):
+        return []
+    mark, other_mark = marks(web), marks(other)
+    wanted = dict(zip(row, other_row))
+    told = [()]
+    for a in range(many):
+        longer = []
+        for begun in told:
+            for b in range(many):
+                right = b not in begun and wanted.get(a, b) == b and web.colours[a] == other.colours[b]
+                right = right and all(mark[a, c] == other_mark[b, begun[c]] for c in range(a))
+                if right and all(mark[c, a] == other_mark[begun[c], b] for c in range(a)):
+                    longer.append(begun + (b,))
+        told = longer
+    return told
+
+
+def fits(web, row, other, other_row, thing):
+    if not is_naming(len(web.colours), thing) or len(row) != len(other_row):
+        return False
+    if renamed_parts(web, thing) != (other.colours, other.arrows):
+        return False
+    return all(thing[a] == b for a, b in zip(row, other_row))
+
+
+@once
+def twists(web, row):
+    return namings(web, row, web, row)
+
+
+def right_no(web, row, other, other_row, thing):
+    if type(thing) is not tuple or not thing or type(thing[0]) is not str:
+        return False
+    alike = row_telling(web, row) == row_telling(other, other_row)
+    if len(thing) == 1:
+        return thing[0] == "unlike" and not alike
+    at = target(row_stand(web, row))
+    if len(thing) != 3 or thing[0] != "every" or not alike or at == -1:
+        return False
+    if not whole(thing[1]) or thing[1] not in row_stand(web, row)[at]:
+        return False
+    cell = row_stand(other, other_row)[at]
+    return right_others(web, row + (thing[1],), other, other_row, cell, thing[2])
+
+
+def right_others(web, row, other, other_row, cell, thing):
+    if type(thing) is not tuple:
+        return False
+    met = []
+    for kid in thing:
+        if type(kid) is not tuple or len(kid) not in (3, 4) or type(kid[1]) is not str:
+            return False
+        y = kid[0]
+        if not whole(y) or y not in cell or y in met:
+            return False
+        if (kid[1], len(kid)) == ("no", 3):
+            if not right_no(web, row, other, other_row + (y,), kid[2]):
+                return False
+        elif (kid[1], len(kid)) == ("turned", 4):
+            if not whole(kid[2]) or kid[2] not in met:
+                return False
+            if not fits(other, other_row + (kid[2],), other, other_row + (y,), kid[3]):
+                return False
+        else:
+            return False
+        met.append(y)
+    return len(met) == len(cell)
+
+
+# Covers
+
+def cover_told(web, row, thing):
+    """(least worth, least row, size) of a right cover, None of anything else."""
+    if type(thing) is not tuple or not thing or type(thing[0]) is not str:
+        return None
+    if target(row_stand(web, row)) == -1:
+        return (worth(web, row), row, 1) if len(thing) == 1 and thing[0] == "leaf" else None
+    if len(thing) != 2 or thing[0] != "branch" or type(thing[1]) is not tuple:
+        return None
+    kept, left = kids(web, row)
+    words, below, turned = {}, {}, {}
+    for kid in thing[1]:
+        if type(kid) is not tuple or len(kid) < 2 or not whole(kid[0]) or type(kid[1]) is not str or kid[0] in words:
+            return None
+        x = kid[0]
+        words[x] = kid[1]
+        if (kid[1], len(kid)) == ("left", 2):
+            right = x in left
+        elif (kid[1], len(kid)) == ("down", 3):
+            below[x] = cover_told(web, row + (x,), kid[2]) if x in kept else None
+            right = below[x] is not None
+        elif (kid[1], len(kid)) == ("turned", 4):
+            turned[x] = kid[2]
+            right = whole(kid[2]) and kid[2] in kept and x in kept
+            right = right and fits(web, row + (kid[2],), web, row + (x,), kid[3])
+        else:
+            right = False
+        if not right:
+            return None
+    if sorted(words) != sorted(kept + left) or any(words[z] != "down" for z in turned.values()):
+        return None
+    ranked = sorted((told[0], x) for x, told in below.items())
+    if any(one[0] == other[0] for one, other in itertools.combinations(ranked, 2)):
+        return None
+    best = ranked[0][1]
+    return below[best][:2] + (below[best][2] * (1 + list(turned.values()).count(best)),)
+
+
+def least_worth(web, row):
+    """The least worth of all leaves that begin with a good row."""
+    kept = kids(web, row)[0]
+    return min(least_worth(web, row + (x,)) for x in kept) if kept else worth(web, row)

@@ -1,4 +1,4 @@
-"""Every name, argument and default value that the interface lists for stages 1 to 3."""
+"""Every name, argument and default value that the interface lists for the modules that there are."""
 
 import importlib
 import inspect
@@ -33,6 +33,14 @@ FUNCTIONS = {
         "worth": "(web, row)",
     },
     "leaves": {"naming_by": "(stand)", "leaves": "(web, *, most=60)"},
+    "fitting": {"fits": "(web, row, other, other_row, thing)"},
+    "carrying": {
+        "carried_row": "(row, naming)", "carried_twist": "(twist, naming)",
+        "carried_no": "(paper, naming, other_naming)",
+    },
+    "covers": {
+        "right_cover": "(web, row, thing)", "least": "(web, row, cover)", "carried_cover": "(cover, naming)",
+    },
 }
 
 CONSTANTS = {

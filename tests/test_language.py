@@ -71,6 +71,27 @@ def parents(tree):
     return {child: node for node in ast.walk(tree) for child in ast.iter_child_nodes(node)}
 
 
+def plain(node, bound):
+    """Whether a value at module level is a number, a text, or a tuple or dict of such and of functions above it."""
+    if isinstance(node, ast.Constant):
+        return isinstance(node.value, (int, str))
+    if isinstance(node, ast.BinOp):
+        return plain(node.left, ()) and plain(node.right, ())
+    if isinstance(node, ast.Tuple):
+        return all(plain(part, bound) for part in node.elts)
+    if isinstance(node, ast.Dict):
+        parts = [(key, part) for key, part in zip(node.keys, node.values) if not isinstance(part, ast.Dict)]
+        return len(parts) == len(node.keys) and all(plain(key, ()) and plain(part, bound) for key, part in parts)
+    return isinstance(node, ast.Name) and node.id in bound
+
+
+def tables(tree):
+    """The names of the dicts at module level."""
+    return {
+        node.targets[0].id for node in tree.body if isinstance(node, ast.Assign) and isinstance(node.value, ast.Dict)
+    }
+
+
 def called(node):
     """The name of the builtin or function that a node calls, or None."""
     return node.func.id if isinstance(node, ast.Call) and isinstance(node.func, ast.Name) else None
@@ -117,12 +138,27 @@ class Language(unittest.TestCase):
             for node in tree.body[1:]:
                 self.assertIsInstance(node, (ast.ImportFrom, ast.Assign, ast.FunctionDef, ast.ClassDef))
                 if isinstance(node, ast.Assign):
-                    self.assertIs(type(eval(ast.unparse(node.value), {"__builtins__": {}})), int)
+                    self.assertTrue(plain(node.value, bound), ast.unparse(node))
                     bound.append(node.targets[0].id)
                 elif not isinstance(node, ast.ImportFrom):
                     bound.append(node.name)
             self.assertIsNotNone(ast.get_docstring(tree))
             self.assertEqual(len(bound), len(set(bound)), name)
+
+    def test_tables_are_only_read(self):
+        for tree in trees().values():
+            above = parents(tree)
+            for node in ast.walk(tree):
+                if isinstance(node, ast.Name) and node.id in tables(tree) and isinstance(node.ctx, ast.Load):
+                    up = above[node]
+                    if isinstance(up, ast.Attribute):
+                        self.assertEqual(up.attr, "get")
+                    elif isinstance(up, ast.Subscript):
+                        self.assertTrue(up.value is node and isinstance(up.ctx, ast.Load))
+                        # What stands in a table gets a name of its own ahead of a call.
+                        self.assertFalse(isinstance(above[up], ast.Call) and above[up].func is up)
+                    else:
+                        self.assertIsInstance(up, ast.Compare)
 
     def test_names(self):
         for name, tree in trees().items():

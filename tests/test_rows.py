@@ -9,17 +9,12 @@ from likewebs.webs import Web, renamed
 from tests import oracle
 from tests.common import (
     Case, all_rows, all_stands, bare, chain, edge_webs, few_things, full, new_stand, ring, small_webs, some_namings,
-    some_stands, things, variants,
+    some_rows, some_stands, things, variants,
 )
 
 # Two chains of three, with colours that part them from a single corner.
 TWO = Web((1, 1, 1, 1, 1, 1, 0), ((0, 1, 1), (1, 2, 1), (3, 4, 1), (4, 5, 1)))
 REFUSING = (check_row, row_stand, row_telling, kids, worth)
-
-
-def some_rows(many):
-    corners = tuple(range(many))
-    return sorted({(), corners[:1], corners[-1:], corners[:2], corners[:2][::-1], corners[::3], corners})
 
 
 class IsRow(Case):
