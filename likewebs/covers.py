@@ -4,29 +4,16 @@ from likewebs.carrying import carried_twist
 from likewebs.errors import NoCover
 from likewebs.fitting import fits
 from likewebs.rows import kids, worth
+from likewebs.shapes import are_kids
 from likewebs.wholes import is_whole
 
-# How many things a kid with that word has.
-LONG = {"left": 2, "down": 3, "turned": 4}
-
-
-def is_kid(thing):
-    """Whether anything begins with a number and a word, and has as many things as the word asks for."""
-    if not isinstance(thing, tuple) or len(thing) < 2 or not isinstance(thing[1], str):
-        return False
-    return is_whole(thing[0]) and LONG.get(thing[1]) == len(thing)
-
-
-def are_kids(cell, thing):
-    """Whether anything is a tuple with one kid for each corner of a cell, in any order."""
-    if not isinstance(thing, tuple) or not all([is_kid(kid) for kid in thing]):
-        return False
-    return sorted([kid[0] for kid in thing]) == cell
+# The words of kids, and how many things a kid with that word has.
+WORDS = (("left", 2), ("down", 3), ("turned", 4))
 
 
 def is_branch(cell, thing):
     """Whether anything has the shape of a branch over a cell."""
-    return isinstance(thing, tuple) and len(thing) == 2 and thing[0] == "branch" and are_kids(cell, thing[1])
+    return isinstance(thing, tuple) and len(thing) == 2 and thing[0] == "branch" and are_kids(WORDS, cell, thing[1])
 
 
 def corners_down(told):
@@ -49,7 +36,7 @@ def is_right_kid(web, row, kept, down, kid):
 
 def check_branch(web, row, kept, left, thing):
     """Refuses anything but a branch that is right, but for the covers of its kids."""
-    if not is_branch(sorted(kept + left), thing):
+    if not is_branch(kept + left, thing):
         raise NoCover("that is no branch for the row's target cell")
     down = corners_down(thing[1])
     if not all([is_right_kid(web, row, kept, down, kid) for kid in thing[1]]):

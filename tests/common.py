@@ -1,9 +1,18 @@
 """What the tests share: exact comparing, things of every kind, and webs to try."""
 
 import itertools
+import os
+import pathlib
+import subprocess
+import sys
+import time
 import unittest
 
 from likewebs.webs import Web
+
+ROOT = pathlib.Path(__file__).resolve().parent.parent
+# What a few seconds are, on a slow machine too.
+SECONDS = 10
 
 
 def picture(thing):
@@ -250,6 +259,13 @@ def signed(crossed):
     return Web((0,) * 4 + (1,) * 8, rows)
 
 
+def frucht():
+    """Twelve corners with three neighbours each, of which no two are alike: Frucht's web."""
+    steps = (-5, -2, -4, 2, 5, -2, 2, 5, -2, -5, 4, 2)
+    ties = {(a, (a + step) % 12) for a, step in enumerate(steps)} | {(a, (a + 1) % 12) for a in range(12)}
+    return Web((0,) * 12, sorted({(a, b, 1) for a, b in ties} | {(b, a, 1) for a, b in ties}))
+
+
 # Of one look, but not alike.
 WHEEL, OTHER_WHEEL = wheel({1: 1, 2: 2}), wheel({1: 1, 2: 3})
 TRIANGLES, HEXAGON = beside(full(3), full(3)), wheel({1: 1, 2: 5}, many=6)
@@ -275,7 +291,7 @@ def knotty_webs():
     # Its first two corners tell the same, singled out, but no twist sends them to one another.
     told += [around(WHEEL, OTHER_WHEEL, 1), around(ring(5), ring(5), 1)]
     # Of its first four corners, which tell the same, twists send each to just one other.
-    told += [signed([(0, 1)]), signed([])]
+    told += [signed([(0, 1)]), signed([]), frucht()]
     return told
 
 
@@ -283,3 +299,31 @@ def some_rows(many):
     """Some rows of so many corners: of none, of one, of two both ways, of all."""
     corners = tuple(range(many))
     return sorted({(), corners[:1], corners[-1:], corners[:2], corners[:2][::-1], corners[::3], corners})
+
+
+def great_webs():
+    """Webs of twelve corners that have many twists, no two of them alike."""
+    told = [bare(12), full(12), ring(12), around(ring(5), ring(5)), around(ring(5), ring(5), 1)]
+    told += [wheel({1: 1, 2: 11}, many=12), beside(*[full(2)] * 6), beside(*[ring(3)] * 4), beside(full(6), full(6))]
+    told += [beside(*[full(4)] * 3), beside(*[chain(3)] * 4), beside(bare(6), ring(6)), signed([]), frucht()]
+    return told
+
+
+def in_time(case, deed, *handed, **named):
+    """What a deed tells, which must be told in a few seconds."""
+    start = time.perf_counter()
+    told = deed(*handed, **named)
+    case.assertLess(time.perf_counter() - start, SECONDS)
+    return told
+
+
+def told_elsewhere(*lines):
+    """What two runs of other Pythons print of a few lines, in which texts are hashed unlike."""
+    text = "\n".join(("from tests.common import *",) + lines)
+    told = []
+    for seed in ("1", "2"):
+        around_it = dict(os.environ, PYTHONHASHSEED=seed, PYTHONDONTWRITEBYTECODE="1")
+        told.append(subprocess.run(
+            [sys.executable, "-c", text], cwd=ROOT, env=around_it, check=True, capture_output=True, text=True,
+        ).stdout)
+    return told

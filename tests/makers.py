@@ -65,3 +65,38 @@ def a_paper(web, row, other, other_row, numbers):
 def some_papers(web, row, other, other_row, many=3):
     """So many right papers of no."""
     return [a_paper(web, row, other, other_row, chance(seed)) for seed in range(many)]
+
+
+def a_level(web, row, twists, numbers):
+    """A right level of a web and a row that has a target cell; its twists are put into the list."""
+    stand = oracle.row_stand(web, row)
+    cell = stand[oracle.target(stand)]
+    corner = pick(numbers, cell)
+    met, reached = [corner], []
+    known = oracle.twists(web, row)
+    for y in mixed(numbers, sorted({twist[corner] for twist in known} - {corner})):
+        z = pick(numbers, met)
+        twists.append(pick(numbers, [twist for twist in known if twist[z] == y]))
+        reached.append((y, z, len(twists) - 1))
+        met.append(y)
+    rest = [y for y in cell if y not in met]
+    return (corner, tuple(reached), others_of(web, row + (corner,), web, row, rest, numbers))
+
+
+def a_group(web, row, numbers):
+    """A right group of a web and a row, with a few twists that nobody needs."""
+    twists = [pick(numbers, oracle.twists(web, row)) for _ in range(next(numbers) % 3)]
+    levels = []
+    longer = row
+    while oracle.target(oracle.row_stand(web, longer)) != -1:
+        levels.append(a_level(web, longer, twists, numbers))
+        longer += (levels[-1][0],)
+    order = mixed(numbers, list(range(len(twists))))
+    for at, (corner, reached, others) in enumerate(levels):
+        levels[at] = (corner, tuple((y, z, order.index(k)) for y, z, k in reached), others)
+    return (len(web), tuple(twists[k] for k in order), tuple(levels))
+
+
+def some_groups(web, row, many=3):
+    """So many right groups of a web and a row."""
+    return [a_group(web, row, chance(seed)) for seed in range(many)]

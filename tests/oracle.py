@@ -384,3 +384,61 @@ def least_worth(web, row):
     """The least worth of all leaves that begin with a good row."""
     kept = kids(web, row)[0]
     return min(least_worth(web, row + (x,)) for x in kept) if kept else worth(web, row)
+
+
+# Groups
+
+def right_group(web, row, thing):
+    if type(thing) is not tuple or len(thing) != 3:
+        return False
+    many, twists_told, levels = thing
+    if not whole(many) or many != len(web.colours) or type(twists_told) is not tuple or type(levels) is not tuple:
+        return False
+    if not all(fits(web, row, web, row, twist) for twist in twists_told):
+        return False
+    for level in levels:
+        at = target(row_stand(web, row))
+        if at == -1 or not right_level(web, row, row_stand(web, row)[at], twists_told, level):
+            return False
+        row += (level[0],)
+    return target(row_stand(web, row)) == -1
+
+
+def right_level(web, row, cell, twists_told, level):
+    if type(level) is not tuple or len(level) != 3 or not whole(level[0]) or level[0] not in cell:
+        return False
+    ways = {level[0]: ()}
+    if type(level[1]) is not tuple:
+        return False
+    for step in level[1]:
+        if type(step) is not tuple or len(step) != 3 or not all(map(whole, step)):
+            return False
+        y, z, k = step
+        if y not in cell or y in ways or z not in ways or k not in range(len(twists_told)):
+            return False
+        if not fits(web, row + (z,), web, row + (y,), twists_told[k]):
+            return False
+        ways[y] = ways[z] + (k,)
+    rest = [y for y in cell if y not in ways]
+    return right_others(web, row + (level[0],), web, row, rest, level[2])
+
+
+def size(group):
+    told = 1
+    for _, reached, _ in group[2]:
+        told *= len(reached) + 1
+    return told
+
+
+def made_of(many, some):
+    """All namings that come of some namings, one behind the other in any number, rising."""
+    told = {tuple(range(many))}
+    new = list(told)
+    while new:
+        first = new.pop()
+        for second in some:
+            both = tuple(second[corner] for corner in first)
+            if both not in told:
+                told.add(both)
+                new.append(both)
+    return sorted(told)

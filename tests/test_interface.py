@@ -34,12 +34,20 @@ FUNCTIONS = {
     },
     "leaves": {"naming_by": "(stand)", "leaves": "(web, *, most=60)"},
     "fitting": {"fits": "(web, row, other, other_row, thing)"},
+    "nopapers": {"right_no": "(web, row, other, other_row, thing)"},
+    "seeking": {"sought": "(web, row, other, other_row)", "fitting": "(web, row, other, other_row)"},
     "carrying": {
         "carried_row": "(row, naming)", "carried_twist": "(twist, naming)",
         "carried_no": "(paper, naming, other_naming)",
     },
+    "grouping": {
+        "is_twist": "(web, row, thing)", "right_group": "(web, row, thing)", "group_of": "(web, row=())",
+    },
     "covers": {
         "right_cover": "(web, row, thing)", "least": "(web, row, cover)", "carried_cover": "(cover, naming)",
+    },
+    "forms": {
+        "cover_of": "(web, row=())", "form": "(web)", "form_naming": "(web)", "same_form": "(one, other)",
     },
 }
 
