@@ -169,8 +169,8 @@ class EqualForms(Case):
                 self.assertIs(same_form(one, renamed(one, naming)), True)
 
     def test_great_webs(self):
-        for one, other in itertools.combinations(great_webs(), 2):
-            self.assertNotEqual(form(one), form(other))
+        for one, other in itertools.combinations([form(web) for web in great_webs()], 2):
+            self.assertNotEqual(one, other)
 
 
 class GreatWebs(Case):

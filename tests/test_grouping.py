@@ -293,6 +293,15 @@ class GroupOf(Looks):
         for web in (signed([(0, 1), (2, 3)]), around(OTHER_WHEEL, WHEEL, 1), beside(TRIANGLES, WHEEL)):
             self.look(web, ())
 
+    def test_only_one_of_those_that_twists_send_to_one_another_is_gone_into(self):
+        for web in knotty_webs():
+            row = ()
+            for corner, _, others in group_of(web)[2]:
+                gone = [kid[0] for kid in others if kid[1] == "no"]
+                for twist in oracle.twists(web, row):
+                    self.assertFalse([y for y in gone if twist[y] != y and twist[y] in gone])
+                row += (corner,)
+
     def test_few_twists_are_told(self):
         for web in great_webs():
             self.assertLess(len(group_of(web)[1]), 12)
