@@ -1,6 +1,7 @@
 """The document's points once more, written in another way than in the program, to compare it with."""
 
 import itertools
+import re
 from collections import Counter
 
 MOST = 12
@@ -442,3 +443,74 @@ def made_of(many, some):
                 told.add(both)
                 new.append(both)
     return sorted(told)
+
+
+def way(group, level, a):
+    """The way to a corner at a level, None where there is none: from the corner back to the level's corner."""
+    corner, reached, _ = group[2][level]
+    told = ()
+    while a != corner:
+        steps = [step for step in reached if step[0] == a]
+        if not steps:
+            return None
+        a, told = steps[0][1], (steps[0][2],) + told
+    return told
+
+
+def make(group, word):
+    """The naming that a word makes, corner by corner."""
+    told = []
+    for a in range(group[0]):
+        for k in word:
+            a = group[1][k][a]
+        told.append(a)
+    return tuple(told)
+
+
+def ways_of(group, thing):
+    """("ways", a way for each level) of a twist, ("no", level) of anything else."""
+    if not is_naming(group[0], thing):
+        return ("no", -1)
+    left = {a: b for a, b in enumerate(thing)}
+    told = []
+    for at, level in enumerate(group[2]):
+        told.append(way(group, at, left[level[0]]))
+        if told[-1] is None:
+            return ("no", at)
+        turned = make(group, told[-1])
+        left = {a: turned.index(b) for a, b in left.items()}
+    return ("no", len(told)) if any(a != b for a, b in left.items()) else ("ways", told)
+
+
+def number(group, ways):
+    """The number of a twist by its ways."""
+    told = 0
+    for (corner, reached, _), one in zip(group[2], ways):
+        corners = [corner] + [y for y, _, _ in reached]
+        told = told * len(corners) + corners.index(make(group, one)[corner])
+    return told
+
+
+def turns(web, row):
+    return tuple(sorted({tuple(sorted({twist[a] for twist in twists(web, row)})) for a in range(len(web.colours))}))
+
+
+# Things
+
+def deep(thing):
+    """How many tuples stand within one another in a thing, None where it is no thing."""
+    if type(thing) is tuple:
+        parts = [deep(part) for part in thing]
+        return None if None in parts else 1 + max(parts, default=0)
+    if type(thing) is str:
+        return 0 if re.fullmatch("[a-z]{1,8}", thing, re.ASCII) else None
+    return 0 if within(thing, 0, GREATEST) else None
+
+
+def is_thing(thing):
+    return deep(thing) is not None and deep(thing) <= 60
+
+
+def text(thing):
+    """The text of a thing, made of how Python shows it."""
+    return repr(thing).replace(",)", ")").replace(", ", " ").replace("'", "")

@@ -49,6 +49,28 @@ FUNCTIONS = {
     "forms": {
         "cover_of": "(web, row=())", "form": "(web)", "form_naming": "(web)", "same_form": "(one, other)",
     },
+    "groups": {
+        "size": "(group)", "way": "(group, level, corner)", "made": "(group, word)", "word_of": "(group, thing)",
+        "member": "(group, number)", "number_of": "(group, thing)", "turns": "(group)",
+        "carried_group": "(group, naming)",
+    },
+    "house": {"House": "()"},
+    "things": {"is_thing": "(thing)", "text_of": "(thing)"},
+}
+
+METHODS = {
+    ("webs", "Web"): {
+        "__init__": "(self, colours, arrows=())", "mark": "(self, a, b)", "__eq__": "(self, other)",
+        "__len__": "(self)", "__str__": "(self)", "__repr__": "(self)",
+    },
+    ("house", "House"): {
+        "__init__": "(self)", "put": "(self, name, web)", "drop": "(self, name)", "twin": "(self, name, new)",
+        "tie": "(self, name, a, b, *, mark=1)", "untie": "(self, name, a, b)", "enter": "(self, name, *, colour=0)",
+        "leave": "(self, name, corner)", "paint": "(self, name, corner, colour)", "rename": "(self, name, naming)",
+        "back": "(self)", "again": "(self)", "several": "(self, rows)", "visit": "(self, visitor)", "names": "(self)",
+        "web": "(self, name)", "form": "(self, name)", "naming": "(self, name)", "twists": "(self, name)",
+        "alike": "(self, name)", "find": "(self, web)", "classes": "(self)", "busy": "(self)", "diary": "(self)",
+    },
 }
 
 CONSTANTS = {
@@ -71,15 +93,15 @@ class Interface(Case):
         for name, wanted in CONSTANTS.items():
             with self.subTest(name=name):
                 self.same(getattr(module("wholes"), name), wanted)
+        self.same(module("things").DEEP, 60)
 
     def test_methods_stand_in_the_class_itself(self):
-        for name, wanted in {
-            "__init__": "(self, colours, arrows=())", "mark": "(self, a, b)", "__eq__": "(self, other)",
-            "__len__": "(self)", "__str__": "(self)", "__repr__": "(self)",
-        }.items():
-            with self.subTest(name=name):
-                self.assertIn(name, vars(Web))
-                self.assertEqual(str(inspect.signature(vars(Web)[name])), wanted)
+        for (place, kind), names in METHODS.items():
+            home = getattr(module(place), kind)
+            for name, wanted in names.items():
+                with self.subTest(kind=kind, name=name):
+                    self.assertIn(name, vars(home))
+                    self.assertEqual(str(inspect.signature(vars(home)[name])), wanted)
 
     def test_what_stands_behind_a_star_is_handed_in_by_name(self):
         changes, leaves = module("changes"), module("leaves")
@@ -91,6 +113,37 @@ class Interface(Case):
                              (leaves.leaves, (web, 2))):
             with self.assertRaises(TypeError):
                 deed(*handed)
+        house = module("house").House()
+        house.put("a", web)
+        self.same(house.tie("a", 0, 1, mark=9), None)
+        self.same(house.enter("a", colour=9), 2)
+        self.same(house.web("a"), Web((0, 0, 9), ((0, 1, 9),)))
+        for deed, handed in ((house.tie, ("a", 0, 1, 9)), (house.enter, ("a", 9))):
+            with self.assertRaises(TypeError):
+                deed(*handed)
+
+    def test_kinds_of_values_of_groups(self):
+        groups, group = module("groups"), module("grouping").group_of(Web((0, 0)))
+        for told, kind in ((groups.size(group), int), (groups.way(group, 0, 1), tuple), (groups.made(group, (0,)), tuple),
+                           (groups.word_of(group, (1, 0)), tuple), (groups.member(group, 1), tuple),
+                           (groups.number_of(group, (1, 0)), int), (groups.turns(group), tuple),
+                           (groups.turns(group)[0], tuple), (groups.carried_group(group, (1, 0)), tuple)):
+            self.assertIs(type(told), kind)
+
+    def test_kinds_of_values_of_houses(self):
+        house = module("house").House()
+        for told, kind in ((house.put("a", Web((0, 0))), type(None)), (house.twin("a", "b"), type(None)),
+                           (house.enter("a"), int), (house.back(), type(None)), (house.again(), type(None)),
+                           (house.several([]), list), (house.visit(lambda name, web: 0), list), (house.names(), list),
+                           (house.web("a"), Web), (house.form("a"), Web), (house.naming("a"), tuple),
+                           (house.twists("a"), int), (house.alike("a"), list), (house.find(Web(())), list),
+                           (house.classes(), list), (house.classes()[0], list), (house.busy(), bool),
+                           (house.diary(), list), (house.diary()[0], tuple), (house.diary()[1], tuple)):
+            self.assertIs(type(told), kind)
+        things = module("things")
+        self.assertIs(type(things.is_thing(())), bool)
+        self.assertIs(type(things.is_thing(None)), bool)
+        self.assertIs(type(things.text_of(0)), str)
 
 
 if __name__ == "__main__":

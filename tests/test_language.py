@@ -2,6 +2,7 @@
 
 import ast
 import builtins
+import functools
 import pathlib
 import re
 import unittest
@@ -40,6 +41,7 @@ def files():
     return sorted(PACKAGE.glob("*.py"))
 
 
+@functools.cache
 def trees():
     return {path.stem: ast.parse(path.read_text(encoding="utf-8")) for path in files()}
 
@@ -58,8 +60,9 @@ def defined(tree):
 
 
 def local_names(tree):
-    """The names of parameters and of all that functions assign to."""
+    """The names of parameters, of caught errors, and of all that functions assign to."""
     told = {node.arg for node in ast.walk(tree) if isinstance(node, ast.arg)}
+    told |= {node.name for node in ast.walk(tree) if isinstance(node, ast.ExceptHandler) and node.name}
     for function in [node for node in ast.walk(tree) if isinstance(node, (ast.FunctionDef, ast.Lambda))]:
         for node in ast.walk(function):
             if isinstance(node, ast.Name) and not isinstance(node.ctx, ast.Load):
@@ -90,6 +93,35 @@ def tables(tree):
     return {
         node.targets[0].id for node in tree.body if isinstance(node, ast.Assign) and isinstance(node.value, ast.Dict)
     }
+
+
+@functools.cache
+def own_classes():
+    return {node.name for tree in trees().values() for node in tree.body if isinstance(node, ast.ClassDef)}
+
+
+@functools.cache
+def own_methods():
+    """The names of all methods of the package but the double-underscore ones."""
+    told = set()
+    for tree in trees().values():
+        for kind in [node for node in tree.body if isinstance(node, ast.ClassDef)]:
+            told |= {node.name for node in kind.body if isinstance(node, ast.FunctionDef)}
+    return {name for name in told if not name.startswith("__")}
+
+
+def functions(tree):
+    """All functions, methods and lambdas."""
+    return [node for node in ast.walk(tree) if isinstance(node, (ast.FunctionDef, ast.Lambda))]
+
+
+def simple(node):
+    """Whether a value may stand in a finally: a name, an attribute, a plain literal, or a list or tuple of these."""
+    if isinstance(node, (ast.List, ast.Tuple)):
+        return all(simple(part) for part in node.elts)
+    if isinstance(node, ast.Attribute):
+        return simple(node.value)
+    return isinstance(node, (ast.Name, ast.Constant))
 
 
 def called(node):
@@ -203,6 +235,77 @@ class Language(unittest.TestCase):
                             self.assertTrue(isinstance(right, ast.Constant) and right.value in (None, True, False))
                 if isinstance(node, ast.Raise):
                     self.assertTrue(called(node.exc), "raise creates its error on the spot")
+
+    def test_finally(self):
+        for tree in trees().values():
+            for node in [part for block in ast.walk(tree) if isinstance(block, ast.Try) for part in block.finalbody]:
+                if isinstance(node, ast.Assign):
+                    self.assertTrue(simple(node.value) and all(simple(target) for target in node.targets))
+                else:
+                    self.assertIsInstance(node, ast.Expr)
+                    self.assertIsInstance(node.value.func, ast.Attribute)
+                    self.assertEqual((node.value.func.attr, len(node.value.args)), ("append", 1))
+                    self.assertTrue(simple(node.value.func.value) and simple(node.value.args[0]))
+        self.assertFalse({"append", "clear", "sort", "keys"} & own_methods())
+
+    def test_handlers(self):
+        for tree in trees().values():
+            above = parents(tree)
+            for node in [node for node in ast.walk(tree) if isinstance(node, ast.ExceptHandler)]:
+                self.assertIsInstance(node.type, ast.Name)
+                self.assertIn(node.type.id, own_classes())
+            for function in functions(tree):
+                names = [node.name for node in ast.walk(function) if isinstance(node, ast.ExceptHandler) and node.name]
+                self.assertEqual(len(names), len(set(names)))
+                for node in [node for node in ast.walk(function) if isinstance(node, ast.Name) and node.id in names]:
+                    self.assertIsInstance(above[node], ast.Attribute, "of a caught error its fields are read")
+            for node in [node for node in ast.walk(tree) if isinstance(node, ast.Raise) and node.cause]:
+                self.assertTrue(isinstance(node.cause, ast.Constant) and node.cause.value is None)
+
+    def test_classes_and_methods_are_not_passed_on(self):
+        for tree in trees().values():
+            above = parents(tree)
+            for node in ast.walk(tree):
+                up = above.get(node)
+                if isinstance(node, ast.Name) and node.id in own_classes():
+                    right = isinstance(up, (ast.ClassDef, ast.ExceptHandler))
+                    right = right or isinstance(up, ast.Call) and up.func is node
+                    self.assertTrue(right or called(up) == "isinstance" and up.args[1] is node, node.id)
+                if isinstance(node, ast.Attribute) and node.attr in own_methods() | METHODS:
+                    field = node.attr in ("count", "index")
+                    self.assertTrue(field or isinstance(up, ast.Call) and up.func is node, node.attr)
+                if isinstance(node, ast.Starred) and isinstance(node.ctx, ast.Load):
+                    self.assertIsInstance(node.value, ast.Name)
+                if isinstance(node, ast.Lambda):
+                    self.assertFalse(node.args.defaults + node.args.kwonlyargs)
+                    self.assertIsNone(node.args.vararg)
+
+    def test_keywords(self):
+        for tree in trees().values():
+            for node in [node for node in ast.walk(tree) if isinstance(node, ast.Call) and node.keywords]:
+                words = {word.arg for word in node.keywords}
+                if called(node) in ("sorted", "min", "max"):
+                    self.assertLessEqual(words, {"key"})
+                else:
+                    self.assertNotIn(called(node), set(dir(builtins)))
+                    self.assertFalse(isinstance(node.func, ast.Attribute) and node.func.attr in METHODS)
+
+    def test_default_values(self):
+        for tree in trees().values():
+            for function in functions(tree):
+                given = function.args.defaults + [part for part in function.args.kw_defaults if part is not None]
+                for part in given:
+                    empty = isinstance(part, ast.Tuple) and not part.elts
+                    self.assertTrue(empty or isinstance(part, (ast.Constant, ast.Name)), ast.unparse(part))
+
+    def test_what_a_loop_goes_over_is_left_as_it_is(self):
+        for tree in trees().values():
+            for loop in [node for node in ast.walk(tree) if isinstance(node, ast.For)]:
+                over = {node.id for node in ast.walk(loop.iter) if isinstance(node, ast.Name)}
+                for node in [node for part in loop.body for node in ast.walk(part)]:
+                    if isinstance(node, ast.Call) and isinstance(node.func, ast.Attribute):
+                        if node.func.attr in ("append", "pop", "insert", "remove", "clear", "extend", "update"):
+                            self.assertFalse(isinstance(node.func.value, ast.Name) and node.func.value.id in over)
 
     def test_sets_and_what_is_iterated_at_once(self):
         for tree in trees().values():
