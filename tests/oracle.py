@@ -2,7 +2,7 @@
 
 import itertools
 import re
-from collections import Counter
+from collections import Counter, namedtuple
 
 MOST = 12
 GREATEST = 10 ** 9
@@ -514,3 +514,105 @@ def is_thing(thing):
 def text(thing):
     """The text of a thing, made of how Python shows it."""
     return repr(thing).replace(",)", ")").replace(", ", " ").replace("'", "")
+
+
+# Texts
+
+ATOM = re.compile("0|[1-9][0-9]{0,8}|1000000000|[a-z]{1,8}")
+
+
+def is_text(text):
+    """Whether a text is that of a thing: its innermost tuples are taken for numbers, again and again."""
+    if re.search("[^0-9a-z() ]", text):
+        return False
+    told = re.sub("[0-9a-z]+", lambda met: "." if ATOM.fullmatch(met[0]) else "!", text)
+    for _ in range(60):
+        told = re.sub(r"\((\.( \.)*)?\)", ".", told)
+    return told == "."
+
+
+def begins(text):
+    """Whether the text of some thing begins with a text: with the shortest end behind it it is one."""
+    ahead = text.count("(") - text.count(")")
+    return text == "" or ahead >= 0 and is_text(text + ("0" if text[-1] == " " else "") + ")" * ahead)
+
+
+def longest(text):
+    """How many signs the longest beginning of a text has with which the text of some thing begins."""
+    return next(many for many in range(len(text), -1, -1) if begins(text[:many]))
+
+
+# Two webs
+
+def stand_after(web, many):
+    stand = by_colours(web)
+    for _ in range(many):
+        stand = next_stand(web, stand)
+    return stand
+
+
+def parts_after(one, other, many):
+    """Whether so many rounds part two webs."""
+    return telling(one, stand_after(one, many)) != telling(other, stand_after(other, many))
+
+
+def early(one, other):
+    return next((many for many in range(13) if parts_after(one, other, many)), None)
+
+
+def right_answer(one, other, thing):
+    if type(thing) is not tuple or not thing or type(thing[0]) is not str:
+        return False
+    word, told = thing[0], thing[1:]
+    if (word, len(told)) == ("alike", 1):
+        return fits(one, (), other, (), told[0])
+    if (word, len(told)) == ("early", 1):
+        return within(told[0], 0, 12) and parts_after(one, other, told[0])
+    if (word, len(told)) == ("search", 1):
+        return right_no(one, (), other, (), told[0])
+    if (word, len(told)) == ("forms", 2):
+        covers = [cover_told(one, (), told[0]), cover_told(other, (), told[1])]
+        return None not in covers and covers[0][0] != covers[1][0]
+    return False
+
+
+# Registers
+
+Parts = namedtuple("Parts", "colours arrows")
+
+
+def rising(thing, many):
+    """Whether a thing is a tuple of tuples of so many things, each name above that of the one ahead."""
+    if type(thing) is not tuple:
+        return False
+    last = ""
+    for row in thing:
+        if type(row) is not tuple or len(row) != many or type(row[0]) is not str or not row[0] > last:
+            return False
+        last = row[0]
+    return True
+
+
+def right_register(thing):
+    if not is_thing(thing) or type(thing) is not tuple or len(thing) != 3:
+        return False
+    rows, classes, apart = thing
+    if not rising(rows, 3) or len(rows) > 40 or not rising(classes, 2) or type(apart) is not tuple:
+        return False
+    if any(web_parts(colours, arrows) != ("web", colours, arrows) for _, colours, arrows in rows):
+        return False
+    webs = {name: Parts(colours, arrows) for name, colours, arrows in rows}
+    met = Counter()
+    for first, others in classes:
+        if first not in webs or not rising(others, 2):
+            return False
+        met[first] += 1
+        for name, naming in others:
+            if name not in webs or not name > first or not fits(webs[name], (), webs[first], (), naming):
+                return False
+            met[name] += 1
+    pairs = list(itertools.combinations([webs[row[0]] for row in classes], 2))
+    if met != Counter(webs.keys()) or len(pairs) != len(apart):
+        return False
+    return all(told[:1] != ("alike",) and right_answer(one, other, told) if type(told) is tuple else False
+               for (one, other), told in zip(pairs, apart))

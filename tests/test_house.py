@@ -12,8 +12,8 @@ from likewebs.house import House
 from likewebs.webs import Web, renamed
 from tests import oracle
 from tests.common import (
-    HEXAGON, OTHER_WHEEL, TRIANGLES, WHEEL, Case, all_webs, bare, beside, chain, few_things, full, great_webs, in_time,
-    knotty_webs, picture, ring, some_namings, some_web, things, told_elsewhere, unlike_pairs, variants,
+    HEXAGON, TRIANGLES, Case, all_webs, bare, few_things, great_webs, in_time, knotty_webs, picture, ring, some_namings,
+    things, told_elsewhere, unlike_pairs, variants,
 )
 from tests.model import by_row, is_deed_row, outcome
 
@@ -804,11 +804,6 @@ class TheSameEachTime(Case):
         )
         self.assertEqual(told[0], told[1])
         self.assertTrue(told[0])
-
-    def test_some_webs_are_alike_in_these_tests(self):
-        self.assertTrue(oracle.namings(beside(WHEEL, OTHER_WHEEL), (), beside(OTHER_WHEEL, WHEEL), ()))
-        self.assertFalse(oracle.namings(full(3), (), chain(3), ()))
-        self.assertTrue(some_web(3, 1))
 
 
 if __name__ == "__main__":

@@ -2,10 +2,11 @@
 
 import importlib
 import inspect
+import re
 import unittest
 
 from likewebs.webs import Web
-from tests.common import Case
+from tests.common import ROOT, Case
 
 FUNCTIONS = {
     "wholes": {"is_whole": "(thing)"},
@@ -56,6 +57,16 @@ FUNCTIONS = {
     },
     "house": {"House": "()"},
     "things": {"is_thing": "(thing)", "text_of": "(thing)"},
+    "twowebs": {
+        "stand_after": "(web, rounds)", "early": "(one, other)", "right_answer": "(one, other, thing)",
+        "answer": "(one, other, *, by='search')", "joined": "(first, second)",
+        "turned_about": "(one, other, told)", "namings": "(one, other, *, most=1000)", "namings_many": "(one, other)",
+    },
+    "texts": {"read": "(text)", "web_text": "(web)", "read_web": "(text)"},
+    "registers": {
+        "register_of": "(house, *, by='search')", "right_register": "(thing)", "house_of": "(thing)",
+    },
+    "desk": {"Desk": "(house)"},
 }
 
 METHODS = {
@@ -70,6 +81,10 @@ METHODS = {
         "back": "(self)", "again": "(self)", "several": "(self, rows)", "visit": "(self, visitor)", "names": "(self)",
         "web": "(self, name)", "form": "(self, name)", "naming": "(self, name)", "twists": "(self, name)",
         "alike": "(self, name)", "find": "(self, web)", "classes": "(self)", "busy": "(self)", "diary": "(self)",
+    },
+    ("desk", "Desk"): {
+        "__init__": "(self, house)", "say": "(self, line)", "script": "(self, lines, *, ear=None, stop=True)",
+        "log": "(self)",
     },
 }
 
@@ -94,6 +109,8 @@ class Interface(Case):
             with self.subTest(name=name):
                 self.same(getattr(module("wholes"), name), wanted)
         self.same(module("things").DEEP, 60)
+        self.same(module("twowebs").BY, "search")
+        self.same(module("twowebs").MOST_TOLD, 1000)
 
     def test_methods_stand_in_the_class_itself(self):
         for (place, kind), names in METHODS.items():
@@ -118,7 +135,14 @@ class Interface(Case):
         self.same(house.tie("a", 0, 1, mark=9), None)
         self.same(house.enter("a", colour=9), 2)
         self.same(house.web("a"), Web((0, 0, 9), ((0, 1, 9),)))
-        for deed, handed in ((house.tie, ("a", 0, 1, 9)), (house.enter, ("a", 9))):
+        twowebs, registers, desk = module("twowebs"), module("registers"), module("desk").Desk(house)
+        self.same(twowebs.answer(web, web, by="forms")[0], "alike")
+        self.same(twowebs.namings(web, web, most=2), ((0, 1), (1, 0)))
+        self.same(registers.register_of(house, by="early")[1], (("a", ()),))
+        self.same(desk.script(["x", "y"], ear=None, stop=False), ["no line"] * 2)
+        for deed, handed in ((house.tie, ("a", 0, 1, 9)), (house.enter, ("a", 9)), (twowebs.answer, (web, web, "forms")),
+                             (twowebs.namings, (web, web, 2)), (registers.register_of, (house, "early")),
+                             (desk.script, ([], None)), (desk.script, ([], None, False))):
             with self.assertRaises(TypeError):
                 deed(*handed)
 
@@ -144,6 +168,35 @@ class Interface(Case):
         self.assertIs(type(things.is_thing(())), bool)
         self.assertIs(type(things.is_thing(None)), bool)
         self.assertIs(type(things.text_of(0)), str)
+
+    def test_kinds_of_values_of_two_webs_registers_texts_and_desks(self):
+        twowebs, texts, registers = module("twowebs"), module("texts"), module("registers")
+        house, web, other = module("house").House(), Web((0, 0)), Web((0, 1))
+        house.put("a", web)
+        desk = module("desk").Desk(house)
+        answer = twowebs.answer(web, other)
+        for told, kind in ((twowebs.stand_after(web, 3), tuple), (twowebs.early(web, other), int),
+                           (twowebs.early(web, web), type(None)), (twowebs.right_answer(web, other, answer), bool),
+                           (twowebs.right_answer(web, other, None), bool), (answer, tuple),
+                           (twowebs.joined(("alike", (1, 0)), answer), tuple),
+                           (twowebs.turned_about(web, other, answer), tuple), (twowebs.namings(web, web), tuple),
+                           (twowebs.namings(web, web)[0], tuple), (twowebs.namings_many(web, web), int),
+                           (twowebs.namings_many(web, other), int), (texts.read("0"), int), (texts.read("a"), str),
+                           (texts.read("(a)"), tuple), (texts.web_text(web), str), (texts.read_web("(() ())"), Web),
+                           (registers.register_of(house), tuple), (registers.right_register(()), bool),
+                           (registers.right_register(((), (), ())), bool),
+                           (registers.house_of(((), (), ())), module("house").House), (desk.say("names"), str),
+                           (desk.say(None), str), (desk.script(["names"]), list), (desk.script(["names"])[0], str),
+                           (desk.log(), list), (desk.log()[0], tuple)):
+            self.assertIs(type(told), kind)
+
+    def test_every_name_of_the_interface_is_looked_at(self):
+        told = (ROOT.parent / "shared" / "DOC.md")
+        if told.exists():
+            told = told.read_text(encoding="utf-8").split("# The interface")[1]
+            for name in re.findall(r"`([a-z_]+)\(", told):
+                known = [names for names in list(FUNCTIONS.values()) + list(METHODS.values()) if name in names]
+                self.assertTrue(known, name)
 
 
 if __name__ == "__main__":

@@ -7,7 +7,7 @@ from likewebs.errors import Busy, NoDeed
 from likewebs.house import House
 from likewebs.webs import Web
 from tests import oracle
-from tests.common import HEXAGON, TRIANGLES, Case, bare, chain, chance, full, picture, ring, some_web
+from tests.common import HEXAGON, TRIANGLES, Case, bare, chain, chance, full, ring, some_web
 from tests.model import Model, No, by_row, outcome
 from tests.test_house import all_told, house_with, webs_of
 
@@ -190,9 +190,6 @@ class ToldAnew(Case):
         self.assertEqual(all_told(house), all_told(house_with(webs_of(house))))
         house.visit(lambda name, web: self.assertEqual(all_told(house), all_told(house_with(webs_of(house)))))
         self.assertEqual(all_told(house), all_told(house_with(webs_of(house))))
-
-    def test_pictures_tell_webs_apart(self):
-        self.assertNotEqual(picture(ring(3)), picture(chain(3)))
 
 
 if __name__ == "__main__":
